@@ -1,0 +1,116 @@
+package mender
+
+import (
+	"math"
+	"reflect"
+	"slices"
+	"strings"
+	"testing"
+
+	"mender/api"
+)
+
+// P1: that none of these calls panics, or goes on for ever, is the test.
+func TestP1TextsOfAnyLength(t *testing.T) {
+	fills := []string{"\x00", "\x01", "\x80", "\x81\xcd", "\x90", "\xa0", "\xbf", "\xff", "\x81\xcd\x00\x00", "\x80\xc8\x00\x00"}
+	lengths := []int{1 << 16, 1 << 20}
+	for n := range 1600 {
+		lengths = append(lengths, n)
+	}
+	for _, fill := range fills {
+		long := strings.Repeat(fill, 1<<20)
+		for _, n := range lengths {
+			x, e := ParsePacket(long[:n])
+			if e == api.OK && n > 1500 || e != api.OK && !reflect.DeepEqual(x, api.Packet{}) {
+				t.Errorf("ParsePacket of %d times %x = %+v, %d", n, fill, x, e)
+			}
+			l, e := ParseReport(long[:n])
+			if e == api.OK && n > 1500 || e != api.OK && len(l) != 0 {
+				t.Errorf("ParseReport of %d times %x = %+v, %d", n, fill, l, e)
+			}
+		}
+	}
+}
+
+func TestP1AnyNumbersAndLists(t *testing.T) {
+	many := make([]int, 1<<20)
+	for _, n := range []int{math.MinInt, math.MinInt32, -65536, -1, 1 << 32, math.MaxInt - 1, math.MaxInt} {
+		for _, x := range []api.Packet{
+			{Type: n}, {Number: n}, {Time: n}, {Source: n}, {Padding: n}, {Profile: n},
+			{Extended: true, Profile: n}, {Contributors: []int{n}}, {Contributors: many, Padding: n},
+		} {
+			if s, e := TellPacket(x); s != "" || e != api.ErrNumber {
+				t.Errorf("TellPacket at %d = %d bytes, %d", n, len(s), e)
+			}
+		}
+		for _, x := range []api.Asking{ask(n, 0, 0), ask(0, n, 0), ask(0, 0, n), ask(n, n, many...), ask(n, n)} {
+			if s, e := TellAsking(x); s != "" || e != api.ErrNumber {
+				t.Errorf("TellAsking at %d = %d bytes, %d", n, len(s), e)
+			}
+		}
+	}
+	if s, e := TellPacket(api.Packet{Payload: strings.Repeat("p", 1<<24)}); s != "" || e != api.ErrForm {
+		t.Errorf("TellPacket of a great payload = %d bytes, %d", len(s), e)
+	}
+}
+
+// roomy has spare room behind its numbers, filled, so that a change shows.
+func roomy(numbers ...int) []int {
+	list := append(slices.Clone(numbers), 77, 77, 77, 77)
+	return list[:len(numbers)]
+}
+
+func TestP2ListsHandedInAreNotChanged(t *testing.T) {
+	contributors := roomy(9, 8, 7)
+	numbers := roomy(5, 8, 7, 8, 6, 30, 2)
+	for range 2 {
+		TellPacket(api.Packet{Contributors: contributors, Payload: "x", Padding: 3})
+		TellAsking(api.Asking{Source: 3, Numbers: numbers})
+	}
+	if got := contributors[:7]; !slices.Equal(got, []int{9, 8, 7, 77, 77, 77, 77}) {
+		t.Errorf("contributors are now %v", got)
+	}
+	if got := numbers[:11]; !slices.Equal(got, []int{5, 8, 7, 8, 6, 30, 2, 77, 77, 77, 77}) {
+		t.Errorf("numbers are now %v", got)
+	}
+}
+
+// spoil writes over a list and its spare room.
+func spoil[T any](list []T, with T) {
+	list = list[:cap(list)]
+	for i := range list {
+		list[i] = with
+	}
+}
+
+func TestP2ContributorsAreNewMemory(t *testing.T) {
+	text := unhex(t, "83 00 0000 00000000 00000000 00000001 00000002 00000003")
+	before, _ := ParsePacket(text)
+	spoiled, _ := ParsePacket(text)
+	spoil(spoiled.Contributors, 99)
+	after, _ := ParsePacket(text)
+	want := []int{1, 2, 3}
+	if !slices.Equal(before.Contributors, want) || !slices.Equal(after.Contributors, want) {
+		t.Errorf("before %v, after %v", before.Contributors, after.Contributors)
+	}
+}
+
+func TestP2AskingsAreNewMemory(t *testing.T) {
+	text := unhex(t, "81 cd 0004 00000001 00000002 0003 0001 0064 0000"+askingOf3+askingOf3)
+	want := []api.Asking{ask(1, 2, 3, 4, 100), ask(1, 2, 3), ask(1, 2, 3)}
+	before, _ := ParseReport(text)
+	for i := range want {
+		spoiled, _ := ParseReport(text)
+		spoil(spoiled[i].Numbers, 99)
+		for k := range want {
+			if k != i && !reflect.DeepEqual(spoiled[k], want[k]) {
+				t.Errorf("asking %d is %+v, since %d was written into", k, spoiled[k], i)
+			}
+		}
+		spoil(spoiled, ask(6, 6, 6))
+	}
+	after, _ := ParseReport(text)
+	if !reflect.DeepEqual(before, want) || !reflect.DeepEqual(after, want) {
+		t.Errorf("before %+v, after %+v", before, after)
+	}
+}

@@ -1,0 +1,25 @@
+package wire
+
+import (
+	"math/bits"
+	"testing"
+)
+
+func TestBitsOfByte(t *testing.T) {
+	for b, row := range bitsOfByte {
+		if row.count != bits.OnesCount(uint(b)) {
+			t.Errorf("byte %#x: count %d", b, row.count)
+		}
+		back, last := 0, -1
+		for _, place := range row.places[:row.count] {
+			if place <= last {
+				t.Errorf("byte %#x: places %v do not rise", b, row.places)
+			}
+			back |= 1 << place
+			last = place
+		}
+		if back != b {
+			t.Errorf("byte %#x: places %v make %#x", b, row.places, back)
+		}
+	}
+}
