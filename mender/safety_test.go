@@ -54,6 +54,75 @@ func TestP1AnyNumbersAndLists(t *testing.T) {
 	}
 }
 
+func TestP1AnyNumbersAndTextsToAMender(t *testing.T) {
+	m := made(t, usual)
+	addSenders(t, m, 3)
+	addWant(t, m, 3, pair(7, 8))
+	for _, n := range []int{math.MinInt, -1 << 32, -1, 1<<32 + 3, math.MaxInt} {
+		if id, e := m.AddWant(n, pair(n, n)); id != 0 || e != api.ErrNone {
+			t.Errorf("AddWant(%d) = %d, %d", n, id, e)
+		}
+		if id, e := m.AddWant(3, pair(9, n)); id != 0 || e != api.ErrNumber {
+			t.Errorf("AddWant at %d = %d, %d", n, id, e)
+		}
+		if list, e := m.Missing(n); len(list) != 0 || e != api.ErrNone {
+			t.Errorf("Missing(%d) = %v, %d", n, list, e)
+		}
+		if e := m.DropWant(n); e != api.ErrNone {
+			t.Errorf("DropWant(%d) = %d", n, e)
+		}
+		if e := m.AddSender(n); e != api.ErrNumber {
+			t.Errorf("AddSender(%d) = %d", n, e)
+		}
+	}
+	whole := numbered(t, 3, 5)
+	wrong := []string{"", "\x80", noughts(1500), strings.Repeat("\x80", 1501), strings.Repeat("\xff", 1<<20)}
+	for n := range 12 {
+		wrong = append(wrong, whole[:n])
+	}
+	for i, text := range wrong {
+		if out, e := m.Packet(text); len(out) != 0 || e != api.ErrForm {
+			t.Errorf("Packet(%x) = %x, %d", text, out, e)
+		}
+		if got, want := m.Look(), (api.State{Tokens: 100, Wrong: i + 1}); got != want {
+			t.Errorf("Packet(%x): Look() = %+v, want %+v", text, got, want)
+		}
+	}
+}
+
+// What is not from New has no sender and takes none.
+func TestP1NoMender(t *testing.T) {
+	refused, _ := New(api.Config{})
+	for name, m := range map[string]*Mender{"nil": nil, "refused": refused, "empty": {}} {
+		if e := m.AddSender(3); e != api.ErrFull {
+			t.Errorf("%s: AddSender = %d", name, e)
+		}
+		if e := m.AddSender(-1); e != api.ErrNumber {
+			t.Errorf("%s: AddSender(-1) = %d", name, e)
+		}
+		if id, e := m.AddWant(3, pair(7, 8)); id != 0 || e != api.ErrNone {
+			t.Errorf("%s: AddWant = %d, %d", name, id, e)
+		}
+		if e := m.DropWant(1); e != api.ErrNone {
+			t.Errorf("%s: DropWant = %d", name, e)
+		}
+		if list, e := m.Missing(3); len(list) != 0 || e != api.ErrNone {
+			t.Errorf("%s: Missing = %v, %d", name, list, e)
+		}
+		if got := m.Look(); got != (api.State{}) {
+			t.Errorf("%s: Look() = %+v", name, got)
+		}
+		if out, e := m.Packet(""); len(out) != 0 || e != api.ErrForm {
+			t.Errorf("%s: Packet of nothing = %x, %d", name, out, e)
+		}
+		if out, e := m.Packet(numbered(t, 3, 1)); len(out) != 0 || e != api.ErrNone {
+			t.Errorf("%s: Packet = %x, %d", name, out, e)
+		}
+		m.Report(1, "")
+		m.Tick(1)
+	}
+}
+
 // roomy has spare room behind its numbers, filled, so that a change shows.
 func roomy(numbers ...int) []int {
 	list := append(slices.Clone(numbers), 77, 77, 77, 77)

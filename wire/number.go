@@ -4,7 +4,7 @@ package wire
 const (
 	version    = 2     // in the two highest bits of every packet and part
 	wordLength = 4     // what lengths in bytes are counted by
-	maxNumber  = 65535 // of packets, and of all else that has two bytes
+	MaxNumber  = 65535 // of packets, and of all else that has two bytes
 )
 
 // readNumber takes all of text, the highest byte first.

@@ -9,7 +9,7 @@ import (
 const (
 	packetHead      = 12 // bytes ahead of the contributors
 	extensionHead   = 4  // bytes ahead of what an extension holds
-	maxType         = 127
+	MaxType         = 127
 	maxPadding      = 255
 	maxContributors = 15
 )
@@ -68,7 +68,7 @@ func readHead(text string) api.Packet {
 	return api.Packet{
 		Extended: text[0]&extensionBit != 0,
 		Marker:   text[1]&markerBit != 0,
-		Type:     int(text[1] & maxType),
+		Type:     int(text[1] & MaxType),
 		Number:   readNumber(text[2:4]),
 		Time:     readNumber(text[4:8]),
 		Source:   readNumber(text[8:12]),
@@ -103,8 +103,8 @@ func WritePacket(x api.Packet) (string, api.Errno) {
 }
 
 func headFits(x api.Packet) bool {
-	return within(x.Type, maxType) &&
-		within(x.Number, maxNumber) &&
+	return within(x.Type, MaxType) &&
+		within(x.Number, MaxNumber) &&
 		within(x.Time, api.MaxSource) &&
 		within(x.Source, api.MaxSource) &&
 		len(x.Contributors) <= maxContributors &&
@@ -115,7 +115,7 @@ func extensionFits(x api.Packet) bool {
 	if !x.Extended {
 		return x.Profile == 0 && x.Extension == ""
 	}
-	return within(x.Profile, maxNumber) && len(x.Extension)%wordLength == 0
+	return within(x.Profile, MaxNumber) && len(x.Extension)%wordLength == 0
 }
 
 func packetLength(x api.Packet) int {

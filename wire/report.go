@@ -103,7 +103,7 @@ func askingFits(x api.Asking) bool {
 	return within(x.Sender, api.MaxSource) &&
 		within(x.Source, api.MaxSource) &&
 		len(x.Numbers) >= 1 && len(x.Numbers) <= api.MaxAsked &&
-		allWithin(x.Numbers, maxNumber)
+		allWithin(x.Numbers, MaxNumber)
 }
 
 // entry: a number, and a bit for each of those ahead of it, the nearest lowest.
