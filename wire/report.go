@@ -64,7 +64,7 @@ func readEntries(entries string) []int {
 func countAsked(entries string) int {
 	count := 0
 	for ; entries != ""; entries = entries[entryLength:] {
-		count += 1 + bitsOfByte[entries[2]].count + bitsOfByte[entries[3]].count
+		count += 1 + int(bitsOfByte[entries[2]].count) + int(bitsOfByte[entries[3]].count)
 	}
 	return count
 }
@@ -72,7 +72,7 @@ func countAsked(entries string) int {
 // addSet appends a number for each bit of b that is set; lowest is the number
 // of the lowest bit.
 func addSet(numbers []int, lowest uint16, b byte) []int {
-	row := bitsOfByte[b]
+	row := findBits(b)
 	for i := range row.count {
 		numbers = append(numbers, int(lowest+uint16(row.places[i])))
 	}
