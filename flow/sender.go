@@ -1,5 +1,7 @@
 package flow
 
+import "slices"
+
 // Fate is what a packet that comes from a sender is.
 type Fate int
 
@@ -20,7 +22,8 @@ type Sender struct {
 
 // gap is what is to be known of a missing number.
 type gap struct {
-	found int // when
+	last  int // when it was found, or asked for last
+	tries int // how often it was asked for
 }
 
 func NewSender(source int) *Sender {
@@ -46,7 +49,7 @@ func (s *Sender) Take(number uint16, now, window int) (Fate, int) {
 func (s *Sender) goOn(number uint16, now, window int) int {
 	if int(number-s.newest) <= window {
 		for n := s.newest + 1; n != number; n++ {
-			s.add(n, gap{found: now})
+			s.add(n, gap{last: now})
 		}
 	}
 	s.newest = number
@@ -71,6 +74,25 @@ func (s *Sender) lookBack(number uint16, window int) Fate {
 		return Passed
 	}
 	return Doubled
+}
+
+// Ask lists the missing numbers that are to be asked for now, the one farthest
+// behind first, and tells how many are given up, having been asked for so many
+// tries.
+func (s *Sender) Ask(now, retry, tries int) ([]int, int) {
+	missing := len(s.listed)
+	due := func(x gap) bool { return now-x.last >= retry }
+	s.listed = slices.DeleteFunc(s.listed, func(x numbered[gap]) bool {
+		return due(x.known) && x.known.tries >= tries
+	})
+	var asked []int
+	for i := range s.listed {
+		if x := &s.listed[i]; due(x.known) {
+			x.known = gap{last: now, tries: x.known.tries + 1}
+			asked = append(asked, int(x.number))
+		}
+	}
+	return asked, missing - len(s.listed)
 }
 
 // Missing lists the missing numbers, the one farthest behind first.

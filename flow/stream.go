@@ -18,9 +18,17 @@ type numbered[T any] struct {
 	known  T
 }
 
+// Source is the stream's own one.
+func (s *stream[T]) Source() int { return s.source }
+
 // Has tells whether source is the stream's own.
 func (s *stream[T]) Has(source int) bool {
 	return s.source == source
+}
+
+// find answers where number is listed, below 0 if it is not.
+func (s *stream[T]) find(number uint16) int {
+	return slices.IndexFunc(s.listed, func(x numbered[T]) bool { return x.number == number })
 }
 
 func (s *stream[T]) add(number uint16, known T) {
@@ -30,7 +38,7 @@ func (s *stream[T]) add(number uint16, known T) {
 
 // remove tells whether number was listed.
 func (s *stream[T]) remove(number uint16) bool {
-	at := slices.IndexFunc(s.listed, func(x numbered[T]) bool { return x.number == number })
+	at := s.find(number)
 	if at < 0 {
 		return false
 	}

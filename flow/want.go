@@ -1,23 +1,34 @@
 package flow
 
-import "mender/api"
+import (
+	"mender/api"
+	"mender/wire"
+)
 
-// Want has the packets listed that are kept for it, as they went to it, the
-// one that went first first.
+// Want has the packets listed that are kept for it, the one that went first
+// first.
 type Want struct {
-	stream[api.Packet]
+	stream[kept]
 	id     int
 	sender int // its source
 	plan   api.Want
 	shift  uint16 // from the sender's numbers to the want's
+	second uint16 // the number of what is sent again next
+}
+
+// kept is a packet as it went to the want.
+type kept struct {
+	packet api.Packet
+	rests  int // until this time it is not sent again
 }
 
 func NewWant(id, sender int, plan api.Want) *Want {
 	return &Want{
-		stream: stream[api.Packet]{source: plan.Source},
+		stream: stream[kept]{source: plan.Source},
 		id:     id,
 		sender: sender,
 		plan:   plan,
+		second: uint16(plan.SecondFirst),
 	}
 }
 
@@ -42,9 +53,35 @@ func (w *Want) Pass(x api.Packet, ring int) api.Packet {
 	}
 	number += w.shift
 	x.Source, x.Type, x.Number = w.source, w.plan.Type, int(number)
-	w.add(number, x)
+	w.add(number, kept{packet: x})
 	if len(w.listed) > ring {
 		w.removeFirst(1)
 	}
+	return x
+}
+
+// Again answers the bytes of what is sent again for number, and lets it rest
+// for delay; false, if it is refused: it is not kept, it rests, or it would be
+// longer than tokens or than any packet.
+func (w *Want) Again(number uint16, now, delay, tokens int) (string, bool) {
+	at := w.find(number)
+	if at < 0 || now < w.listed[at].known.rests {
+		return "", false
+	}
+	text, e := wire.WritePacket(w.repacked(w.listed[at].known.packet))
+	if e != api.OK || len(text) > tokens {
+		return "", false
+	}
+	w.listed[at].known.rests = now + delay
+	w.second++
+	return text, true
+}
+
+// repacked answers x as it would be sent again: under another number, so that
+// its own one goes ahead of the payload.
+func (w *Want) repacked(x api.Packet) api.Packet {
+	x.Payload = wire.NumberBytes(x.Number) + x.Payload
+	x.Source, x.Type, x.Number = w.plan.Second, w.plan.SecondType, int(w.second)
+	x.Padding = 0
 	return x
 }

@@ -7,11 +7,11 @@ import (
 	"mender/api"
 )
 
-// kept lists the numbers and payloads that are kept, in the order of going.
-func kept(w *Want) (numbers []int, payloads string) {
+// keptOf lists the numbers and payloads that are kept, in the order of going.
+func keptOf(w *Want) (numbers []int, payloads string) {
 	for _, x := range w.listed {
 		numbers = append(numbers, int(x.number))
-		payloads += x.known.Payload
+		payloads += x.known.packet.Payload
 	}
 	return numbers, payloads
 }
@@ -51,7 +51,7 @@ func TestKept(t *testing.T) {
 		w := NewWant(1, 3, api.Want{Source: 7, Second: 8, First: 65535})
 		for i, x := range c.list {
 			w.Pass(api.Packet{Source: 3, Number: x.number, Payload: x.payload}, c.ring)
-			if numbers, payloads := kept(w); !slices.Equal(numbers, x.numbers) || payloads != x.payloads {
+			if numbers, payloads := keptOf(w); !slices.Equal(numbers, x.numbers) || payloads != x.payloads {
 				t.Errorf("%s, step %d: kept %v, %s, want %v, %s", name, i, numbers, payloads, x.numbers, x.payloads)
 			}
 		}
@@ -65,7 +65,7 @@ func TestKeptAsItWent(t *testing.T) {
 	if went.Source != 7 || went.Type != 100 || went.Number != 500 || went.Payload != "x" || went.Padding != 3 {
 		t.Errorf("went: %+v", went)
 	}
-	if x := w.listed[0].known; x.Source != 7 || x.Type != 100 || x.Number != 500 || x.Padding != 3 {
+	if x := w.listed[0].known.packet; x.Source != 7 || x.Type != 100 || x.Number != 500 || x.Padding != 3 {
 		t.Errorf("kept: %+v", x)
 	}
 }
@@ -75,8 +75,31 @@ func TestGreatestRing(t *testing.T) {
 	for i := range 200 {
 		w.Pass(api.Packet{Number: i}, 64)
 	}
-	numbers, _ := kept(w)
+	numbers, _ := keptOf(w)
 	if len(numbers) != 64 || numbers[0] != 136 || numbers[63] != 199 {
 		t.Errorf("kept %v", numbers)
+	}
+}
+
+// What is refused changes nothing: neither the next number, nor the rest.
+func TestAgain(t *testing.T) {
+	w := NewWant(1, 3, api.Want{Source: 7, Second: 8, Type: 100, SecondType: 101, First: 500, SecondFirst: 65535})
+	w.Pass(api.Packet{Source: 3, Number: 1, Payload: "x", Padding: 3}, 64)
+	first := "\x80\x65\xff\xff\x00\x00\x00\x00\x00\x00\x00\x08\x01\xf4x"
+	next := "\x80\x65\x00\x00\x00\x00\x00\x00\x00\x00\x00\x08\x01\xf4x"
+	for i, c := range []struct {
+		number      uint16
+		now, tokens int
+		want        string
+	}{
+		{499, 0, 1500, ""}, {501, 0, 1500, ""}, {1, 0, 1500, ""}, {500, 0, 0, ""}, {500, 0, 14, ""},
+		{500, 0, 15, first}, {500, 0, 1500, ""}, {500, 9, 1500, ""}, {500, 10, 14, ""}, {500, 10, 15, next}, {500, 19, 15, ""},
+	} {
+		if text, sent := w.Again(c.number, c.now, 10, c.tokens); text != c.want || sent != (c.want != "") {
+			t.Errorf("step %d: Again(%d) at %d = %x, %t, want %x", i, c.number, c.now, text, sent, c.want)
+		}
+	}
+	if x := w.listed[0].known.packet; x.Source != 7 || x.Number != 500 || x.Payload != "x" || x.Padding != 3 {
+		t.Errorf("kept: %+v", x)
 	}
 }

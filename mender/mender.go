@@ -9,7 +9,7 @@ import (
 	"mender/wire"
 )
 
-// Mender passes packets on.
+// Mender passes packets on, sends them again, and asks for them.
 type Mender struct {
 	config  api.Config
 	state   api.State
@@ -74,7 +74,7 @@ func (m *Mender) AddWant(of int, w api.Want) (int, api.Errno) {
 // DropWant takes one away (P5).
 func (m *Mender) DropWant(id int) api.Errno {
 	m = m.orNone()
-	at := slices.IndexFunc(m.wants, func(w *flow.Want) bool { return w.ID() == id })
+	at := m.findWant(id)
 	if at < 0 {
 		return api.ErrNone
 	}
@@ -110,10 +110,30 @@ func (m *Mender) Packet(text string) ([]string, api.Errno) {
 }
 
 // Report takes a want's report (P7).
-func (m *Mender) Report(id int, text string) ([]string, api.Errno) { return nil, api.OK }
+func (m *Mender) Report(id int, text string) ([]string, api.Errno) {
+	m = m.orNone()
+	at := m.findWant(id)
+	if at < 0 {
+		return nil, api.ErrNone
+	}
+	askings, e := wire.ReadReport(text)
+	if e != api.OK {
+		m.state.Wrong++
+		return nil, e
+	}
+	return m.sendAgain(m.wants[at], askings), api.OK
+}
 
 // Tick lets time go on (P8).
-func (m *Mender) Tick(t int) ([]string, api.Errno) { return nil, api.OK }
+func (m *Mender) Tick(t int) ([]string, api.Errno) {
+	m = m.orNone()
+	if !between(t, 0, api.MaxTime) {
+		return nil, api.ErrNumber
+	}
+	m.state.Now += t
+	m.state.Tokens = min(m.state.Tokens+m.config.Rate*t, m.config.Burst)
+	return m.askForMissing(), api.OK
+}
 
 // Look tells how it stands (P8).
 func (m *Mender) Look() api.State { return m.orNone().state }

@@ -14,9 +14,12 @@ type model struct {
 	window  int
 	begun   bool
 	newest  int
-	missing map[int]bool
-	state   api.State
+	missing map[int]asked
+	state   *api.State
 }
+
+// asked is how a missing number was asked for.
+type asked struct{ last, tries int }
 
 // behind: a is so much behind b.
 func behind(a, b int) int { return (b - a + 65536) % 65536 }
@@ -25,13 +28,13 @@ func (d *model) comes(n int) bool {
 	k := behind(d.newest, n)
 	switch {
 	case !d.begun:
-		d.begun, d.newest, d.missing = true, n, map[int]bool{}
+		d.begun, d.newest, d.missing = true, n, map[int]asked{}
 	case k >= 1 && k <= 32767:
 		d.isNew(n, k)
 	case behind(n, d.newest) >= d.window:
 		d.state.Late++
 		return false
-	case d.missing[n]:
+	case d.lacks(n):
 		delete(d.missing, n)
 	default:
 		d.state.Doubled++
@@ -41,13 +44,18 @@ func (d *model) comes(n int) bool {
 	return true
 }
 
+func (d *model) lacks(n int) bool {
+	_, ok := d.missing[n]
+	return ok
+}
+
 func (d *model) isNew(n, k int) {
 	if k > d.window {
 		d.state.GivenUp += len(d.missing)
 		clear(d.missing)
 	} else {
 		for i := 1; i < k; i++ {
-			d.missing[(d.newest+i)%65536] = true
+			d.missing[(d.newest+i)%65536] = asked{last: d.state.Now}
 		}
 	}
 	d.newest = n
@@ -62,7 +70,7 @@ func (d *model) isNew(n, k int) {
 func (d *model) list() []int {
 	var list []int
 	for k := d.window; k > 0; k-- {
-		if n := behind(k, d.newest); d.missing[n] {
+		if n := behind(k, d.newest); d.lacks(n) {
 			list = append(list, n)
 		}
 	}
@@ -93,7 +101,8 @@ func TestP6AsTheRulesSay(t *testing.T) {
 		addSenders(t, m, 3)
 		first := r.IntN(65536)
 		addWant(t, m, 3, api.Want{Source: 7, Second: 8, First: first})
-		d := model{window: c.Window, state: m.Look(), newest: r.IntN(65536)}
+		state := m.Look()
+		d := model{window: c.Window, state: &state, newest: r.IntN(65536)}
 		began := -1
 		for step := range 2000 {
 			n := next(r, d.newest, c.Window)
@@ -106,8 +115,8 @@ func TestP6AsTheRulesSay(t *testing.T) {
 			}
 			out, e := m.Packet(numbered(t, 3, n))
 			missing, _ := m.Missing(3)
-			if e != api.OK || !slices.Equal(out, want) || m.Look() != d.state || !slices.Equal(missing, d.list()) {
-				t.Fatalf("seed %d, step %d, number %d: %x, %d, %+v, missing %v; want %x, %+v, %v", seed, step, n, out, e, m.Look(), missing, want, d.state, d.list())
+			if e != api.OK || !slices.Equal(out, want) || m.Look() != state || !slices.Equal(missing, d.list()) {
+				t.Fatalf("seed %d, step %d, number %d: %x, %d, %+v, missing %v; want %x, %+v, %v", seed, step, n, out, e, m.Look(), missing, want, state, d.list())
 			}
 		}
 	}

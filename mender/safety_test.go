@@ -71,6 +71,12 @@ func TestP1AnyNumbersAndTextsToAMender(t *testing.T) {
 		if e := m.DropWant(n); e != api.ErrNone {
 			t.Errorf("DropWant(%d) = %d", n, e)
 		}
+		if out, e := m.Report(n, ""); len(out) != 0 || e != api.ErrNone {
+			t.Errorf("Report(%d) = %x, %d", n, out, e)
+		}
+		if out, e := m.Tick(n); len(out) != 0 || e != api.ErrNumber {
+			t.Errorf("Tick(%d) = %x, %d", n, out, e)
+		}
 		if e := m.AddSender(n); e != api.ErrNumber {
 			t.Errorf("AddSender(%d) = %d", n, e)
 		}
@@ -86,6 +92,26 @@ func TestP1AnyNumbersAndTextsToAMender(t *testing.T) {
 		}
 		if got, want := m.Look(), (api.State{Tokens: 100, Wrong: i + 1}); got != want {
 			t.Errorf("Packet(%x): Look() = %+v, want %+v", text, got, want)
+		}
+	}
+}
+
+// Whatever a want's report holds, the call ends, and what it answers is counted.
+func TestP1AnyReportsToAMender(t *testing.T) {
+	m := relaying(t, plenty, 0, 0)
+	pass(t, m, 1, "a", "b", "c")
+	for _, fill := range []string{"\x00", "\x01", "\x80", "\x81\xcd", "\xff", "\x81\xcd\x00\x00", "\x80\xc8\x00\x00", asking(t, 7, 0, 1, 2)} {
+		long := strings.Repeat(fill, 1<<16)
+		for n := range 1600 {
+			before := m.Look()
+			out, e := m.Report(1, long[:n])
+			after := m.Look()
+			switch {
+			case e == api.OK && n <= 1500 && after.Again-before.Again == len(out) && after.Wrong == before.Wrong:
+			case e == api.ErrForm && len(out) == 0 && after.Again == before.Again && after.Refused == before.Refused && after.Wrong == before.Wrong+1:
+			default:
+				t.Fatalf("Report of %d times %x = %x, %d; %+v, then %+v", n, fill, out, e, before, after)
+			}
 		}
 	}
 }
@@ -118,8 +144,15 @@ func TestP1NoMender(t *testing.T) {
 		if out, e := m.Packet(numbered(t, 3, 1)); len(out) != 0 || e != api.ErrNone {
 			t.Errorf("%s: Packet = %x, %d", name, out, e)
 		}
-		m.Report(1, "")
-		m.Tick(1)
+		if out, e := m.Report(1, ""); len(out) != 0 || e != api.ErrNone {
+			t.Errorf("%s: Report = %x, %d", name, out, e)
+		}
+		if out, e := m.Tick(-1); len(out) != 0 || e != api.ErrNumber {
+			t.Errorf("%s: Tick(-1) = %x, %d", name, out, e)
+		}
+		if out, e := m.Tick(1000000); len(out) != 0 || e != api.OK {
+			t.Errorf("%s: Tick = %x, %d", name, out, e)
+		}
 	}
 }
 
@@ -181,5 +214,34 @@ func TestP2AskingsAreNewMemory(t *testing.T) {
 	after, _ := ParseReport(text)
 	if !reflect.DeepEqual(before, want) || !reflect.DeepEqual(after, want) {
 		t.Errorf("before %+v, after %+v", before, after)
+	}
+}
+
+func TestP2SentAgainIsNewMemory(t *testing.T) {
+	m := relaying(t, plenty, 100, 0)
+	pass(t, m, 1, "a", "b")
+	a, b := api.Packet{Payload: "a"}, api.Packet{Payload: "b"}
+	report := asking(t, 7, 100, 101)
+	before, _ := m.Report(1, report)
+	spoiled, _ := m.Report(1, report)
+	spoil(spoiled, "spoiled")
+	again(t, m, 1, report, resent(t, a, 8, 101, 4, 100), resent(t, b, 8, 101, 5, 101))
+	if want := []string{resent(t, a, 8, 101, 0, 100), resent(t, b, 8, 101, 1, 101)}; !slices.Equal(before, want) {
+		t.Errorf("before = %x, want %x", before, want)
+	}
+}
+
+func TestP2AskedForIsNewMemory(t *testing.T) {
+	m := made(t, api.Config{Ring: 1, Window: 8, Retry: 1, Tries: 10})
+	addSenders(t, m, 3, 4)
+	come(t, m, 3, 1, 4)
+	come(t, m, 4, 6, 8)
+	want := []string{asksFor(t, 3, 2, 3), asksFor(t, 4, 7)}
+	before, _ := m.Tick(1)
+	spoiled, _ := m.Tick(1)
+	spoil(spoiled, "spoiled")
+	ticks(t, m, 1, want...)
+	if !slices.Equal(before, want) {
+		t.Errorf("before = %x, want %x", before, want)
 	}
 }

@@ -33,6 +33,11 @@ func addNumber(out []byte, n, length int) []byte {
 	return out
 }
 
+// NumberBytes answers the two bytes of a packet's number.
+func NumberBytes(n int) string {
+	return string(addNumber(nil, n, 2))
+}
+
 func within(n, most int) bool {
 	return n >= 0 && n <= most
 }
