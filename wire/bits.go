@@ -7,14 +7,25 @@ type setBits struct {
 	places [8]uint8
 }
 
-// bitsOfByte has a row for every byte. It tells how much room is needed; what
-// is answered is worked out by findBits, so that it hangs on no variable.
+// bitsOfByte has a row for every byte. SetBits alone reads it: the readers
+// work their answers out by findBits, so that these hang on no variable.
 var bitsOfByte [256]setBits
 
 func init() {
 	for b := range len(bitsOfByte) {
 		bitsOfByte[b] = findBits(byte(b))
 	}
+}
+
+// SetBits lists which bits of b are set, each counted in steps above the lowest
+// one, the lowest first.
+func SetBits(b byte) []int {
+	row := bitsOfByte[b]
+	var places []int
+	for _, place := range row.places[:row.count] {
+		places = append(places, int(place))
+	}
+	return places
 }
 
 func findBits(b byte) setBits {

@@ -51,7 +51,7 @@ func readAsking(part string) api.Asking {
 }
 
 func readEntries(entries string) []int {
-	numbers := make([]int, 0, countAsked(entries))
+	var numbers []int
 	for ; entries != ""; entries = entries[entryLength:] {
 		first := uint16(readNumber(entries[:2]))
 		numbers = append(numbers, int(first))
@@ -59,14 +59,6 @@ func readEntries(entries string) []int {
 		numbers = addSet(numbers, first+9, entries[2])
 	}
 	return numbers
-}
-
-func countAsked(entries string) int {
-	count := 0
-	for ; entries != ""; entries = entries[entryLength:] {
-		count += 1 + int(bitsOfByte[entries[2]].count) + int(bitsOfByte[entries[3]].count)
-	}
-	return count
 }
 
 // addSet appends a number for each bit of b that is set; lowest is the number
